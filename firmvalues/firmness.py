@@ -7,7 +7,7 @@ MANNERS = ("sure", "cells", "letters")
 
 
 def check_manner(manner):
-    if not isinstance(manner, str) or manner not in MANNERS:
+    if manner not in MANNERS:
         raise BadManner(manner)
     return manner
 

@@ -32,8 +32,6 @@ def _unlike_couple(book, falls, manner, told):
 
 
 def judge_clash(book, falls, clash):
-    check_meeting(book, falls)
-    check_manner(clash.manner)
     fault = tree_fault(book, falls, clash.manner, clash.tree)
     if fault is not None:
         return fault

@@ -42,9 +42,8 @@ class Clash:
         self.fails = as_tuples(fails)
 
     def __eq__(self, other):
-        if not isinstance(other, Clash):
-            return False
-        return self.manner == other.manner and self.tree == other.tree and self.fails == other.fails
+        return (isinstance(other, Clash) and self.manner == other.manner and self.tree == other.tree
+                and self.fails == other.fails)
 
 
 def inputs_of_tree(tree):

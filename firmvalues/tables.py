@@ -22,10 +22,8 @@ class HouseTable:
         self._move_at = {(state, others): move for state, others, move in self.moves}
 
     def __eq__(self, other):
-        if not isinstance(other, HouseTable):
-            return False
-        alike = self.n == other.n and self.states == other.states
-        return alike and self.start == other.start and self.moves == other.moves
+        return (isinstance(other, HouseTable) and self.n == other.n and self.states == other.states
+                and self.start == other.start and self.moves == other.moves)
 
     def next_move(self, state, others):
         return self._move_at.get((state, tuple(others)), state)
@@ -52,9 +50,7 @@ def _is_row(houses, others):
 def _is_move(states, values, move):
     if not is_sequence(move):
         return is_whole(move, 0, states - 1)
-    if len(move) != 2 or not isinstance(move[0], str):
-        return False
-    return move[0] == "done" and is_whole(move[1], 0, values - 1)
+    return len(move) == 2 and move[0] == "done" and is_whole(move[1], 0, values - 1)
 
 
 def _place_of(state, others):
@@ -114,10 +110,8 @@ def dense_table(houses, states, start, rows):
     many = _check_places(houses, states, start)
     if not is_sequence(rows) or len(rows) != many:
         raise BadTable(0, "rows")
-    for index in range(many):
-        if not _is_move(states, len(start), rows[index]):
-            raise BadTable(index, "move")
     places = _all_places(houses, states)
+    # The entries stand in the order of the rows, so the table tells the first one that is no move by its place.
     return HouseTable(houses, states, start, [(*places[index], rows[index]) for index in range(many)])
 
 

@@ -63,6 +63,8 @@ class TestFolding(unittest.TestCase):
                     self.check_folding(nested(depth, inner), width)
         self.check_folding(tuple(range(400)), 20)
         self.check_folding(nested(12, tuple(range(100))), 20)
+        self.check_folding(nested(12), 20)
+        self.check_folding((nested(11), 1), 20)
 
     def test_rows_by_hand(self):
         word = "abcdefghijklmnopqrst"

@@ -11,7 +11,7 @@ from firmvalues.firmness import fitting_values
 from reckon import (MANNERS, NO_SEQUENCES, error_of, groups_by, inputs_of, let_by, near_by, some_families, splits_by,
                     worlds)
 
-BOOK_CALLS = (("linked_groups",), ("group_of", (0, 0)), ("least_chain", (0, 0), (9, 9)), ("tree_fault", None),
+BOOK_CALLS = (("linked_groups",), ("group_of", (9, 9)), ("least_chain", (9, 9), (9, 9)), ("tree_fault", None),
               ("groups_fault", ()))
 
 
