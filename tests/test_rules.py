@@ -77,7 +77,7 @@ class TestHolding(unittest.TestCase):
             inputs = inputs_of(n, m)
             if len(inputs) > 40:
                 inputs = random.Random(n).sample(inputs, 30)
-            for lots in some_families(n, 8, 1)[:8]:
+            for lots in some_families(n, 8, 1):
                 falls, let = Falls(n, lots), let_by(n, lots)
                 for rule in plain_rules(n, m):
                     for entry in inputs[:12 if m == 4 else 40]:
