@@ -137,6 +137,7 @@ def _kept_places(tree, fails):
     named = {entry: True for entry in fails}
     below = [1 if entry in named else 0 for entry, _ in tree]
     for place in reversed(range(1, len(tree))):
-        below[tree[place][1]] += below[place]
+        parent = tree[place][1]
+        below[parent] = below[parent] + below[place]
     top = max([place for place in range(len(tree)) if below[place] == len(named)])
     return [place for place in range(len(tree)) if below[place] > 0 and place >= top]

@@ -52,6 +52,25 @@ def called_name(node):
     return node.func.attr if isinstance(node.func, ast.Attribute) else None
 
 
+def bare(node):
+    """A name or an attribute without the indexes behind it, as a text."""
+    while isinstance(node, (ast.Subscript, ast.Starred)):
+        node = node.value
+    return ast.unparse(node)
+
+
+def gets_what_it_changes(node):
+    """True for `xs[k] += xs[j]`, `xs.extend(xs[1:])` and the like."""
+    if isinstance(node, ast.AugAssign) and isinstance(node.op, (ast.Add, ast.BitOr)):
+        changed, given = node.target, [node.value]
+    elif called_name(node) in ("extend", "update") and isinstance(node.func, ast.Attribute):
+        changed, given = node.func.value, node.args
+    else:
+        return False
+    parts = [part for thing in given for part in ast.walk(thing) if isinstance(part, (ast.Name, ast.Attribute))]
+    return bare(changed) in [bare(part) for part in parts]
+
+
 class TestFiles(unittest.TestCase):
     def each(self):
         for path in FILES:
@@ -199,6 +218,16 @@ class TestFiles(unittest.TestCase):
                     self.assertIn(called_name(above[node]), ("sorted", "len"))
                 if name in ("any", "all") and node.args:
                     self.assertIsInstance(node.args[0], ast.ListComp)
+
+    def test_nothing_gets_what_it_changes(self):
+        for row in ("below[tree[place][1]] += below[place]", "xs += xs", "xs[0] += len(xs)", "self.xs += self.xs[1:]",
+                    "xs.extend([x for x in xs])", "rows[0].extend(rows[1])", "d.update(d)", "d |= {1: d}"):
+            self.assertTrue(any(gets_what_it_changes(node) for node in ast.walk(ast.parse(row))), row)
+        for row in ("n += 1", "xs += ys[0]", "xs[k] += k", "self.xs += self.ys", "xs.extend(list(ys))", "xs = xs + xs", "n -= n // 2"):
+            self.assertFalse(any(gets_what_it_changes(node) for node in ast.walk(ast.parse(row))), row)
+        for path, text, tree in self.each():
+            for node in ast.walk(tree):
+                self.assertFalse(gets_what_it_changes(node), f"row {getattr(node, 'lineno', None)}")
 
     def test_caught_errors_are_own(self):
         errors = ast.parse((PACKAGE / "errors.py").read_text())
