@@ -34,6 +34,15 @@ def own_methods():
     return found
 
 
+def properties():
+    found = set()
+    for path in FILES:
+        for node in ast.walk(ast.parse(path.read_text())):
+            if isinstance(node, ast.FunctionDef) and "property" in [ast.unparse(part) for part in node.decorator_list]:
+                found.add(node.name)
+    return found
+
+
 def generators():
     found = set()
     for path in FILES:
@@ -187,10 +196,10 @@ class TestFiles(unittest.TestCase):
     def test_methods_and_attributes(self):
         methods = own_methods() | set(METHODS)
         stored = set()
+        read_alone = properties()
         for path, text, tree in self.each():
             stored |= {node.attr for node in ast.walk(tree)
                        if isinstance(node, ast.Attribute) and isinstance(node.ctx, ast.Store)}
-        properties = {"sure", "covering"}
         for path, text, tree in self.each():
             above = parents_in(tree)
             for node in ast.walk(tree):
@@ -199,8 +208,9 @@ class TestFiles(unittest.TestCase):
                     if isinstance(up, ast.Call) and up.func is node:
                         self.assertIn(node.attr, methods)
                     else:
-                        self.assertIn(node.attr, stored | properties)
+                        self.assertIn(node.attr, stored | read_alone)
         self.assertEqual(stored & own_methods(), set())
+        self.assertEqual(stored & read_alone, set())
 
     def test_what_is_iterated_at_once(self):
         lazy = set(LAZY) | generators()
