@@ -19,7 +19,8 @@ from firmvalues.splitting import PlanBreak, SplitRun
 from firmvalues.tables import HouseTable
 from firmvalues.valence import Outlook
 from firmvalues.verdicts import Endless, Unlike, Unproposed
-from reckon import MANNERS, worlds
+from programs import KINDS, drawn_program
+from reckon import MANNERS, inputs_of, worlds
 
 FUNCTIONS = {
     "inputs": """is_whole(thing, low=None, high=None) check_entry(houses, values, entry) check_view(houses, values, view)
@@ -193,6 +194,67 @@ class TestNothingIsChanged(unittest.TestCase):
                         next(told, None)
                 except ValueError:
                     pass
+
+    def test_programs_plans_and_runs_stay_as_they_are(self):
+        drawn = random.Random(2)
+        called = set()
+        for n, kind in [(n, kind) for n in (2, 3) for kind in KINDS for _ in range(4)]:
+            book, falls = Book(n, 2, inputs_of(n, 2)), Falls.at_most(n, 1)
+            things = self.things_of(drawn, book, falls, drawn_program(drawn, n, 2, kind))
+            kept = shape(things)
+            for file in ("standings", "graph", "verdicts", "alike", "foe", "silence", "splitting", "breaking", "deciders",
+                         "compiled", "cellruns"):
+                for line in listed(FUNCTIONS[file]):
+                    name = line.split("(")[0]
+                    call = getattr(importlib.import_module("firmvalues." + file), name)
+                    params = [param for param in inspect.signature(call).parameters if param != "most"]
+                    own = {**things, **things["for"].get(name, {})}
+                    try:
+                        call(*[own[param] for param in params])
+                        called.add(name)
+                    except ValueError:
+                        pass
+                    self.assertEqual(shape(things), kept, name)
+        names = {line.split("(")[0] for file in list(FUNCTIONS)[13:] for line in listed(FUNCTIONS[file])}
+        self.assertEqual(names - called, set())
+
+    def things_of(self, drawn, book, falls, program):
+        """Things for all parameters by their names, lists wherever a sequence may be one."""
+        n, entry = book.n, [0, 1] + [1] * (book.n - 2)
+        outlook = Outlook(program, entry)
+        standings = [[list(seat) for seat in standing] for standing in outlook.graph.standings]
+        decided = Book(n, 2, [tuple(entry)])
+        outcomes, clash = decide(decided, falls, "sure"), decide(book, falls, "sure")
+        plan = {tuple(drawn.choice([None, 0, 1]) for _ in range(n)): drawn.randrange(2) for _ in range(9)}
+        two_way = outlook.two_way_standings()
+        moving = [tuple(entry), [0], [0] + [1] * (n - 1)]
+        over_decided = {"book": decided, "outcomes": outcomes, "view": tuple(entry), "value": 1, "entry": tuple(entry)}
+        seats = {"one": standings[0], "other": standings[-1]}
+        special = {name: over_decided for line in listed(FUNCTIONS["deciders"]) for name in [line.split("(")[0]]}
+        stepped = CellRun(decided, falls, outcomes, "sure", entry)
+        stepped.step(0)
+        special.update(twin_of={"run": stepped}, finished_run={"run": stepped}, compiled_program=over_decided, alike_off=seats, unlike_seats=seats,
+                       foes_step={"standing": two_way[0] if two_way else standings[0]},
+                       carry_run={"run": [0, 0], "other": moving[2]}, unheard_run={"lot": [1], "other": [0, 0] + entry[2:]},
+                       cell_run_of=over_decided, exchange_values={"entry": tuple(entry)}, silent_run={"lot": [0]})
+        return {"for": special, "program": list(program), "entry": entry, "standing": standings[0], "run": [0, 1], "house": 0,
+                "second": 1, "lot": [1, 0], "graph": outlook.graph, "number": 1, "group": [0, 1, 2], "book": book,
+                "falls": falls, "manner": "sure", "fault": Endless(entry, [0], [1, 1], []), "outlook": outlook,
+                "plan": plan, "orders": [[1]] + [[0]] * (n - 1), "value": 1, "houses": n, "values": 2,
+                "broken": PlanBreak("unlike", entry, [[1]] + [[0]] * (n - 1), []), "clash": clash, "one": (0,) * n,
+                "other": (1,) * n, "course": [["step", 0], ["fall", 1], ["wake", 1]], "outcomes": outcomes,
+                "view": tuple(entry)}
+
+
+def shape(thing):
+    """All that a thing holds, its kinds and its order, as a text."""
+    if isinstance(thing, (list, tuple)):
+        return type(thing).__name__ + "[" + ", ".join(shape(part) for part in thing) + "]"
+    if isinstance(thing, dict):
+        return "{" + ", ".join(shape(key) + ": " + shape(part) for key, part in thing.items()) + "}"
+    if hasattr(thing, "__dict__"):
+        return type(thing).__name__ + shape(vars(thing))
+    return repr(thing)
 
 
 if __name__ == "__main__":
