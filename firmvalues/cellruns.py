@@ -181,8 +181,8 @@ def twin_of(run):
 
 def finished_run(run):
     finished = twin_of(run)
-    for _ in range(4 * finished.n):
-        for house in range(finished.n):
+    for _ in range(4 * run.n):
+        for house in range(run.n):
             if finished.next_of(house) not in ("fallen", "done"):
                 finished.step(house)
     return finished

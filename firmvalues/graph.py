@@ -85,10 +85,10 @@ def _graph_from(tables, first, most):
     return Graph(standings, arcs, parents)
 
 
-def shortest_run(arcs, first, targets, without=None):
+def shortest_run(arcs, first, targets):
     """The couple (run, number) of the shortest run from a number to one of the targets, of several the first in order.
 
-    The steps of the house `without` are not taken. None if no target is reached.
+    None if no target is reached.
     """
     parents = {first: None}
     waiting = [first]
@@ -99,7 +99,7 @@ def shortest_run(arcs, first, targets, without=None):
         if number in targets:
             return run_along(parents, number), number
         for house, other in arcs[number]:
-            if house != without and other not in parents:
+            if other not in parents:
                 parents[other] = (number, house)
                 waiting.append(other)
     return None

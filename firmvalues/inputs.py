@@ -39,6 +39,11 @@ def check_entry(houses, values, entry):
     return tuple(entry)
 
 
+def is_entry(houses, values, thing):
+    """True for what `check_entry` lets."""
+    return is_sequence(thing) and len(thing) == houses and all([is_whole(value, 0, values - 1) for value in thing])
+
+
 def check_view(houses, values, view):
     if not is_sequence(view) or len(view) != houses:
         raise BadView("length", 0)

@@ -1,8 +1,8 @@
 """Rules: which inputs a book is to hold."""
 
-from firmvalues.errors import BadInput, BadRule
+from firmvalues.errors import BadRule
 from firmvalues.firmness import is_firm, places_of
-from firmvalues.inputs import check_entry, is_sequence, is_whole, is_whole_row
+from firmvalues.inputs import check_entry, is_entry, is_sequence, is_whole, is_whole_row
 
 MOST_RULES = 40
 DEEPEST_RULE = 5
@@ -75,7 +75,7 @@ def _checked_arguments(houses, values, rule, path):
 
 def _is_argument(houses, values, kind, word, thing):
     if word == "input":
-        return _is_entry(houses, values, thing)
+        return is_entry(houses, values, thing)
     if word == "row":
         return _is_value_row(values, thing, 1, values) and len(set(thing)) == len(thing)
     if word == "values":
@@ -87,14 +87,6 @@ def _is_argument(houses, values, kind, word, thing):
     if word == "house":
         return is_whole(thing, 0, houses - 1)
     return is_whole(thing, 0, MOST_SPREAD if kind == "spread" else MOST_SUM)
-
-
-def _is_entry(houses, values, thing):
-    try:
-        check_entry(houses, values, thing)
-    except BadInput:
-        return False
-    return True
 
 
 def _is_value_row(values, thing, least, most):

@@ -121,7 +121,8 @@ def _parts_without(near, group, entry):
     seen = {entry: True, others[0]: True}
     waiting = [others[0]]
     while len(waiting) > 0 and len(seen) < len(group):
-        for other in near[waiting.pop()]:
+        at = waiting.pop()
+        for other in near[at]:
             if other not in seen:
                 seen[other] = True
                 waiting.append(other)

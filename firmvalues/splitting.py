@@ -1,8 +1,8 @@
 """Plans of one exchange of letters, and how a clash breaks each of them."""
 
-from firmvalues.errors import BadInput, BadOrders, NotCovering, WrongClash
+from firmvalues.errors import BadOrders, NotCovering, WrongClash
 from firmvalues.firmness import places_of
-from firmvalues.inputs import as_tuples, check_entry, is_sequence, is_whole, is_whole_row, shown_view
+from firmvalues.inputs import as_tuples, is_entry, is_sequence, is_whole, is_whole_row, shown_view
 from firmvalues.judging import judge_clash
 
 WORDS = ("waits", "unlike", "unproposed")
@@ -113,11 +113,7 @@ def plan_fault(plan, book, falls, manner, broken):
 def _is_entry_for(book, manner, broken):
     if broken.what == "waits" or manner == "sure":
         return broken.entry in book
-    try:
-        check_entry(book.n, book.m, broken.entry)
-    except BadInput:
-        return False
-    return True
+    return is_entry(book.n, book.m, broken.entry)
 
 
 def _shows(broken, told):

@@ -14,6 +14,7 @@ class Outlook:
         self.program = tuple(program)
         self.entry = tuple(entry)
         self.ahead = told_ahead(self.graph)
+        self._telling = _telling_numbers(self.graph)
 
     def number_at(self, standing):
         number = self.graph.number_of(standing)
@@ -38,9 +39,7 @@ class Outlook:
         begin = self.number_at(standing)
         if not is_whole(value):
             return None
-        standings = self.graph.standings
-        telling = {number: True for number in range(len(standings)) if value in told_in(standings[number])}
-        found = shortest_run(self.graph.arcs, begin, telling)
+        found = shortest_run(self.graph.arcs, begin, self._telling.get(value, {}))
         return None if found is None else found[0]
 
     def narrowing(self, run):
@@ -57,6 +56,17 @@ class Outlook:
             if len(values[steps]) < 2:
                 return steps
         return None
+
+
+def _telling_numbers(graph):
+    """For each value that is told the numbers of the standings in which it is."""
+    telling = {}
+    for number in range(len(graph.standings)):
+        for value in told_in(graph.standings[number]):
+            if value not in telling:
+                telling[value] = {}
+            telling[value][number] = True
+    return telling
 
 
 def number_behind(graph, number, house):

@@ -1,8 +1,8 @@
 """Verdicts: whether a program is right, and the faults that show that it is not."""
 
-from firmvalues.errors import BadInput, BadManner, NoStep, UnlikeHouses, UnlikeValues
+from firmvalues.errors import BadManner, NoStep, UnlikeHouses, UnlikeValues
 from firmvalues.graph import MOST_STANDINGS, moving_in, reach, shortest_run, tied_groups
-from firmvalues.inputs import all_inputs, as_tuples, check_entry, is_sequence, is_whole
+from firmvalues.inputs import all_inputs, as_tuples, is_entry, is_sequence, is_whole
 from firmvalues.standings import first_standing, last_standing, steppers_of, told_in
 from firmvalues.tables import check_program
 
@@ -76,8 +76,8 @@ def _loop_through(graph, group, moving):
     for house in moving:
         if house not in loop:
             ahead = {number: True for number in group if house in [mover for mover, _ in arcs[number]]}
-            run, number = shortest_run(arcs, at, ahead)
-            at = dict(arcs[number])[house]
+            run, last = shortest_run(arcs, at, ahead)
+            at = dict(arcs[last])[house]
             loop.extend([*run, house])
     run, _ = shortest_run(arcs, at, {group[0]: True})
     return (*loop, *run)
@@ -127,11 +127,7 @@ def fault_error(program, book, falls, manner, fault):
 def _is_judged_input(book, manner, fault):
     if manner == "sure" or isinstance(fault, Endless):
         return fault.entry in book
-    try:
-        check_entry(book.n, book.m, fault.entry)
-    except BadInput:
-        return False
-    return True
+    return is_entry(book.n, book.m, fault.entry)
 
 
 def _behind_run(tables, standing, run):

@@ -270,16 +270,14 @@ def counters(n, states):
 
 
 def long_way():
-    """Two houses, house 0 walks through 20 states for each state of house 1: runs of more than thousand steps."""
+    """Two houses: house 0 walks up and down its 40 states, once for each state of house 1: thousands of steps."""
     fast, slow = [], []
-    for cell in [None, *range(40)]:
-        for state in range(40):
-            half, place = divmod(state, 20)
-            if place < 19:
-                fast.append((state, (cell,), state + 1))
-            elif cell is not None and cell % 2 != half:
-                fast.append((state, (cell,), 20 * (1 - half)))
-    for state in range(39):
-        slow.append((state, (20 * (state % 2) + 19,), state + 1))
-    slow.append((39, (39,), ("done", 0)))
+    for state in range(40):
+        for cell in [None, *range(40)]:
+            if cell is not None and cell % 2:
+                fast.append((state, (cell,), max(state - 1, 0)))
+            else:
+                fast.append((state, (cell,), min(state + 1, 39)))
+        move = state + 1 if state < 39 else ("done", 0)
+        slow.append((state, (0 if state % 2 else 39,), move))
     return HouseTable(2, 40, [0], fast), HouseTable(2, 40, [0], slow)

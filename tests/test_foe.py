@@ -215,6 +215,22 @@ class TestEndless(unittest.TestCase):
                 steps += run
         return steps[:began[standing]], steps[began[standing]:]
 
+    def test_first_standings_with_one_way(self):
+        """What cannot come any more behind the first step is told nevertheless."""
+        drawn = random.Random(69)
+        seen = 0
+        for program in small_programs(drawn, 300):
+            outlook = Outlook(program, (0, 1))
+            came = [outlook.values_at(standing) for standing in outlook.graph.standings]
+            if len(came[0]) < 2:
+                self.assertEqual(error_of(endless_by_foe, outlook, Falls(2, [(0,), (1,)])), ("OneWay", came[0]))
+                seen += came[0] != came[1]
+        late = HouseTable(2, 2, [0, 0], [(0, (None,), ("done", 0)), (0, (0,), 1)])
+        never = HouseTable(2, 1, [0, 0])
+        outlook = Outlook((never, late), (0, 0))
+        self.assertEqual([outlook.values_at(standing) for standing in outlook.graph.standings[:2]], [(0,), ()])
+        self.assertEqual(error_of(endless_by_foe, outlook, Falls(2, [(0,), (1,)])), ("OneWay", (0,)))
+
     def test_endless_runs(self):
         drawn = random.Random(67)
         found = {"endless": 0, "fault": 0}

@@ -17,6 +17,7 @@ split splitlines startswith strip update upper values zfill bit_length""".split(
 LAZY = ("range", "zip", "enumerate", "reversed")
 VIEWS = ("items", "keys", "values")
 TAKERS = ("list", "tuple", "dict", "sorted", "sum", "any", "all", "enumerate", "zip", "min", "max", "reversed")
+MODIFYING = ("append", "clear", "extend", "insert", "pop", "remove", "reverse", "setdefault", "update")
 DOUBLE = ("__init__", "__eq__", "__len__", "__iter__", "__contains__")
 BARRED = re.compile(r"dataclass|overload|contextmanager|_wall|\b(type|typing|enum|Enum|namedtuple|Generic|Protocol|ABC)\b")
 
@@ -78,6 +79,22 @@ def gets_what_it_changes(node):
         return False
     parts = [part for thing in given for part in ast.walk(thing) if isinstance(part, (ast.Name, ast.Attribute))]
     return bare(changed) in [bare(part) for part in parts]
+
+
+def changed_parts(node):
+    """The names and attributes that a statement or a call changes in place, as texts without their indexes."""
+    if isinstance(node, ast.Call) and isinstance(node.func, ast.Attribute) and node.func.attr in MODIFYING:
+        return [bare(node.func.value)]
+    targets = getattr(node, "targets", []) + ([node.target] if isinstance(node, ast.AugAssign) else [])
+    while any(isinstance(part, (ast.Tuple, ast.List)) for part in targets):
+        targets = [part for target in targets for part in getattr(target, "elts", [target])]
+    return [bare(part) for part in targets if isinstance(part, ast.Subscript)]
+
+
+def changes_what_it_iterates(node):
+    """True for a loop in which something that its head reads is changed in place, by whatever index."""
+    parts = {bare(part) for part in ast.walk(node.iter) if isinstance(part, (ast.Name, ast.Attribute))}
+    return any(part in parts for row in node.body for inner in ast.walk(row) for part in changed_parts(inner))
 
 
 class TestFiles(unittest.TestCase):
@@ -238,6 +255,17 @@ class TestFiles(unittest.TestCase):
         for path, text, tree in self.each():
             for node in ast.walk(tree):
                 self.assertFalse(gets_what_it_changes(node), f"row {getattr(node, 'lineno', None)}")
+
+    def test_no_loop_changes_what_it_iterates_over(self):
+        for row in ("xs.append(x)", "del xs[0]", "xs[0] = x", "xs[0][1] += 1", "a, xs[2] = x", "xs[x].extend([1])"):
+            for head in ("xs", "list(xs)", "xs[0]", "enumerate(xs)", "f(xs)"):
+                loop = ast.parse(f"for x in {head}:\n    if x:\n        {row}").body[0]
+                self.assertTrue(changes_what_it_iterates(loop), (head, row))
+        self.assertFalse(changes_what_it_iterates(ast.parse("for x in xs:\n    ys.append(x)\n    x = xs").body[0]))
+        for path, text, tree in self.each():
+            for node in ast.walk(tree):
+                if isinstance(node, ast.For):
+                    self.assertFalse(changes_what_it_iterates(node), f"row {node.lineno}")
 
     def test_caught_errors_are_own(self):
         errors = ast.parse((PACKAGE / "errors.py").read_text())

@@ -12,7 +12,7 @@ from firmvalues.judging import judge_outcomes
 from firmvalues.standings import last_standing
 from firmvalues.tables import HouseTable
 from firmvalues.verdicts import Endless, Unlike, Unproposed, fault_error, judge_program
-from programs import (SecondGraph, begin_by, counters, drawn_program, is_stuck_by, movers, right_programs, shows_by,
+from programs import (SecondGraph, begin_by, counters, drawn_program, is_stuck_by, long_way, movers, right_programs, shows_by,
                       some_programs, told_by, unsafe_by, walk_by, KINDS)
 from reckon import NO_SEQUENCES, all_families, error_of, inputs_of
 
@@ -158,6 +158,22 @@ class TestVerdict(unittest.TestCase):
         self.assertTrue(shows_by(counters(3, 13), Falls.at_most(3, 1), told))
         self.assertIsNone(fault_error(counters(3, 13), Book(3, 1, [(0, 0, 0)]), Falls.at_most(3, 1), "cells", told))
         self.assertLess(time.monotonic() - begun, 15)
+
+
+    def test_paths_of_thousands_of_steps(self):
+        program, book, falls = long_way(), Book(2, 1, [(0, 0)]), Falls.at_most(2, 1)
+        for family in (falls, Falls(2, [])):
+            told = judge_program(program, book, family, "sure")
+            self.assertEqual(type(told), Endless)
+            self.assertTrue(shows_by(program, family, told))
+        graph = reach(program, (0, 0))
+        ends = [number for number in range(len(graph.standings)) if told_by(graph.standings[number])]
+        run = graph.run_to(ends[0])
+        self.assertGreater(len(run), 3000)
+        bold = Book(2, 1, [(0, 0)])
+        self.assertEqual(fault_error(program, bold, falls, "sure", Unlike((0, 0), run)), "told")
+        self.assertEqual(fault_error(program, bold, falls, "sure", Unproposed((0, 0), run)), "told")
+        self.assertEqual(fault_error(program, bold, falls, "sure", Unlike((0, 0), run + (1,))), "run")
 
 
 class TestRefused(unittest.TestCase):
