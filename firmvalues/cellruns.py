@@ -4,7 +4,7 @@ from firmvalues.cells import Cells
 from firmvalues.collects import Collector
 from firmvalues.deciders import check_cell_manner, told_at
 from firmvalues.errors import NoDeed
-from firmvalues.inputs import check_entry, is_whole, unheard_houses
+from firmvalues.inputs import check_entry, is_whole, row_with, unheard_houses
 
 DEEDS = ("step", "fall", "wake")
 
@@ -119,10 +119,10 @@ class CellRun:
             if self._heard[house] != heard:
                 self._decide_at(house, self._heard[house])
         elif len(collector.full) > collects and collector.stable_view() is not None:
-            self._decide_at(house, _with_value(collector.stable_view(), house, self.entry[house]))
+            self._decide_at(house, row_with(collector.stable_view(), house, self.entry[house]))
 
     def _hear(self, house, other):
-        self._heard[house] = _with_value(self._heard[house], other, self._values.read(other))
+        self._heard[house] = row_with(self._heard[house], other, self._values.read(other))
 
     def _decide_at(self, house, view):
         value = told_at(self.book, self.falls, self.outcomes, self.manner, view)
@@ -154,10 +154,6 @@ class CellRun:
             self._heard[house] = run._heard[house]
             self._chosen[house] = run._chosen[house]
             self._reasons[house] = run._reasons[house]
-
-
-def _with_value(view, house, value):
-    return view[:house] + (value,) + view[house + 1:]
 
 
 def _copy_collects(collector, other):

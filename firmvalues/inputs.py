@@ -30,6 +30,11 @@ def as_tuples(thing):
     return thing
 
 
+def row_with(row, at, item):
+    """The tuple with this item in the place of the one that stands there."""
+    return row[:at] + (item,) + row[at + 1:]
+
+
 def check_entry(houses, values, entry):
     if not is_sequence(entry) or len(entry) != houses:
         raise BadInput("length", 0)

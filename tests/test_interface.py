@@ -9,12 +9,20 @@ import unittest
 from firmvalues.books import Book
 from firmvalues.breaking import Broken
 from firmvalues.cellruns import CellRun
+from firmvalues.calm import Calm
 from firmvalues.cells import Cells
 from firmvalues.collects import Collector
+from firmvalues.desk import Desk, Trial, begun_page
 from firmvalues.falls import Falls
 from firmvalues.foe import Onward, Rounds
+from firmvalues.keepers import Disk
+from firmvalues.letters import Letter
+from firmvalues.nets import Net
 from firmvalues.outcomes import Clash, Outcomes, decide
+from firmvalues.registers import Commands
+from firmvalues.service import Service
 from firmvalues.silence import Settled
+from firmvalues.slots import Agenda, Stuck
 from firmvalues.splitting import PlanBreak, SplitRun
 from firmvalues.tables import HouseTable
 from firmvalues.valence import Outlook
@@ -77,6 +85,28 @@ FUNCTIONS = {
         sooner_run(book, outcomes, view, value)""",
     "compiled": "plan_program(houses, values, plan) compiled_program(book, falls, outcomes, manner)",
     "cellruns": """cell_run_of(book, falls, outcomes, manner, entry, course) twin_of(run) finished_run(run)""",
+    "letters": "check_deed(houses, values, deed)",
+    "keepers": """blank_disk(houses) disk_with_value(disk, house, value) disk_with_letter(disk, letter)
+        keepers_of(disk, house) looked_disk(disk, house, book, falls, outcomes, manner)""",
+    "nets": """after_deed(net, deed) after_deeds(net, deeds) net_steps(net, deeds)
+        proposed_net(book, falls, outcomes, manner, view)""",
+    "disktext": """disk_text(disk) read_disk(houses, values, text) net_text(net)
+        read_net(book, falls, outcomes, manner, text)""",
+    "slowly": "all_awake(net) slow_course(net, deeds) judge_slow(net, deeds, slow)",
+    "calm": "calm_round(net) calm_end(net)",
+    "waits": "waits_for(net, house)",
+    "parted": "parted_course(falls, one, other)",
+    "slots": """check_slot_rule(houses, values, slot, rule) plain_rule(rule, log) check_log(agenda, log)
+        book_behind(agenda, log) outcomes_behind(agenda, log) next_values(agenda, log) is_possible(agenda, log)
+        each_possible_log(agenda) each_stuck_log(agenda) is_sound(agenda) first_stuck(agenda) entries_for(agenda, log)""",
+    "registers": "folded_state(commands, log) states_along(commands, log)",
+    "service": """begun_service(agenda) log_of_house(service, house) all_logs(service) longest_log(service)
+        is_finished(service) check_service_deed(agenda, deed) after_service_deed(service, deed)
+        after_service_course(service, course) each_service(service, course) calm_service(service)
+        read_at(service, commands, house)""",
+    "servicetext": "service_text(service) read_service(agenda, text)",
+    "desk": "begun_page(houses, values) after_desk_deed(page, deed)",
+    "stories": """desk_from(houses, values, course) straight_course(course) desk_from_text(houses, values, text)""",
 }
 CLASSES = {
     "falls": {"Falls(houses, lots)": """lets(self, lot) is_quorum(self, lot) each_lot(self) with_lot(self, lot)
@@ -91,6 +121,15 @@ CLASSES = {
     "silence": {"Settled(entry, run, told)": ""},
     "splitting": {"PlanBreak(what, entry, orders, lot)": "", "SplitRun(entry, orders, told)": ""},
     "breaking": {"Broken(link, fault)": ""},
+    "letters": {"Letter(sender, receiver, view, told)": ""},
+    "keepers": {"Disk(view, heard, stable, told)": ""},
+    "nets": {"Net(book, falls, outcomes, manner)": ""},
+    "calm": {"Calm(net, rounds, sent)": ""},
+    "slots": {"Agenda(falls, values, manner, rules)": "", "Stuck(log, clash)": ""},
+    "registers": {"Commands(start, rows)": ""},
+    "service": {"Service(agenda, awake, nets, clash)": ""},
+    "desk": {"Page(n, m, falls, manner, rules, commands, service, program, standing, text)": "",
+             "Trial(answers, refused)": ""},
 }
 NOT_COMPARED = {
     "graph": {"Graph": "number_of(self, standing) run_to(self, number)"},
@@ -101,9 +140,19 @@ NOT_COMPARED = {
     "collects": {"Collector(houses, *, own=None)": "read_from(self, cells) stable_view(self) forget(self)"},
     "cellruns": {"CellRun(book, falls, outcomes, manner, entry)": """next_of(self, house) heard_view(self, house)
         waiting_for(self, house) do_deed(self, deed) step(self, house) fall(self, house) wake(self, house)"""},
+    "desk": {"Desk(houses, values)": "act(self, deed) trial(self, course)"},
 }
-PROPERTIES = {Falls: "sure covering", Cells: "shown", CellRun: "written decisions grounds"}
-GENERATORS = ("each_view", "each_lot", "each_face", "each_way", "other_rows")
+PROPERTIES = {Falls: "sure covering", Cells: "shown", CellRun: "written decisions grounds",
+              Net: "told_values awake_houses"}
+COUNTED = {Book: True, Net: True, Agenda: False}
+GENERATORS = ("each_view", "each_lot", "each_face", "each_way", "other_rows", "net_steps", "each_possible_log",
+              "each_stuck_log", "each_service")
+
+
+PROGRAM_FILES = ("standings", "graph", "verdicts", "alike", "foe", "silence", "splitting", "breaking", "deciders",
+                 "compiled", "cellruns")
+NET_FILES = ("letters", "keepers", "nets", "disktext", "slowly", "calm", "waits", "parted", "slots", "registers", "service",
+             "servicetext", "desk", "stories")
 
 
 def listed(text):
@@ -133,6 +182,8 @@ class TestInterface(unittest.TestCase):
                 self.assertEqual(shown(kind.__name__, kind), head)
             self.assertEqual(kind.__module__, module.__name__)
             self.assertEqual("__eq__" in vars(kind), file in CLASSES and head in CLASSES[file])
+            self.assertEqual("__len__" in vars(kind), kind in COUNTED)
+            self.assertEqual("__iter__" in vars(kind), COUNTED.get(kind, False))
             for line in listed(methods):
                 name = line.split("(")[0]
                 self.assertIn(name, vars(kind))
@@ -159,7 +210,17 @@ class TestInterface(unittest.TestCase):
                              (SplitRun((), (), ()), "entry orders told"), (Broken((), None), "link fault"),
                              (Cells(2), "n"), (Collector(2), "n own turn so_far full"),
                              (CellRun(book, falls, decide(book, falls, "cells"), "cells", (0, 0)),
-                              "n book falls outcomes manner entry course fallen")):
+                              "n book falls outcomes manner entry course fallen"),
+                             (Letter(0, 1, (0, 0), None), "sender receiver view told"),
+                             (Disk((0, 0), (None, None), None, None), "view heard stable told"),
+                             (Net(book, falls, decide(book, falls, "letters"), "letters"),
+                              "book falls outcomes manner disks memories way sent"),
+                             (Calm(None, 1, 0), "net rounds sent"), (Stuck((), None), "log clash"),
+                             (Agenda(falls, 2, "sure", [["rule", ["all"]]]), "falls n m manner rules"),
+                             (Commands([0], [["keep"]]), "start rows"),
+                             (Service(None, (), (), None), "agenda awake nets clash"),
+                             (begun_page(2, 2), "n m falls manner rules commands service program standing text"),
+                             (Trial((), None), "answers refused"), (Desk(2, 2), "page done")):
             self.assertLessEqual(set(names.split()), set(vars(thing)))
 
 
@@ -202,8 +263,7 @@ class TestNothingIsChanged(unittest.TestCase):
             book, falls = Book(n, 2, inputs_of(n, 2)), Falls.at_most(n, 1)
             things = self.things_of(drawn, book, falls, drawn_program(drawn, n, 2, kind))
             kept = shape(things)
-            for file in ("standings", "graph", "verdicts", "alike", "foe", "silence", "splitting", "breaking", "deciders",
-                         "compiled", "cellruns"):
+            for file in PROGRAM_FILES:
                 for line in listed(FUNCTIONS[file]):
                     name = line.split("(")[0]
                     call = getattr(importlib.import_module("firmvalues." + file), name)
@@ -215,7 +275,7 @@ class TestNothingIsChanged(unittest.TestCase):
                     except ValueError:
                         pass
                     self.assertEqual(shape(things), kept, name)
-        names = {line.split("(")[0] for file in list(FUNCTIONS)[13:] for line in listed(FUNCTIONS[file])}
+        names = {line.split("(")[0] for file in PROGRAM_FILES for line in listed(FUNCTIONS[file])}
         self.assertEqual(names - called, set())
 
     def things_of(self, drawn, book, falls, program):

@@ -186,8 +186,16 @@ class TestFiles(unittest.TestCase):
                 if isinstance(node, (ast.FunctionDef, ast.ClassDef)):
                     names.append(node.name)
                 elif isinstance(node, ast.Assign):
+                    if isinstance(node.value, ast.Dict):
+                        for key, thing in zip(node.value.keys, node.value.values):
+                            ast.literal_eval(key)
+                            if isinstance(thing, ast.Name):
+                                self.assertIn(thing.id, names)
+                            else:
+                                ast.literal_eval(thing)
+                    else:
+                        ast.literal_eval(node.value)
                     names.append(node.targets[0].id)
-                    ast.literal_eval(node.value)
                 else:
                     names += [alias.name for alias in node.names]
             self.assertEqual(len(names), len(set(names)))
@@ -246,6 +254,21 @@ class TestFiles(unittest.TestCase):
                 if name in ("any", "all") and node.args:
                     self.assertIsInstance(node.args[0], ast.ListComp)
 
+    def test_stars_in_calls_stand_before_names_and_attributes(self):
+        for path, text, tree in self.each():
+            for node in ast.walk(tree):
+                if isinstance(node, ast.Call):
+                    for part in node.args:
+                        if isinstance(part, ast.Starred):
+                            self.assertIsInstance(part.value, (ast.Name, ast.Attribute))
+                    self.assertTrue(all(keyword.arg for keyword in node.keywords))
+
+    def test_a_table_is_not_called_straight_from_an_index(self):
+        for path, text, tree in self.each():
+            for node in ast.walk(tree):
+                if isinstance(node, ast.Call):
+                    self.assertNotIsInstance(node.func, (ast.Subscript, ast.Call))
+
     def test_nothing_gets_what_it_changes(self):
         for row in ("below[tree[place][1]] += below[place]", "xs += xs", "xs[0] += len(xs)", "self.xs += self.xs[1:]",
                     "xs.extend([x for x in xs])", "rows[0].extend(rows[1])", "d.update(d)", "d |= {1: d}"):
@@ -273,7 +296,8 @@ class TestFiles(unittest.TestCase):
         for path, text, tree in self.each():
             for node in ast.walk(tree):
                 if isinstance(node, ast.ExceptHandler):
-                    self.assertIn(node.type.id, own)
+                    for kind in getattr(node.type, "elts", [node.type]):
+                        self.assertIn(kind.id, own)
                 if isinstance(node, ast.Raise):
                     self.assertIn(called_name(node.exc), own)
 
