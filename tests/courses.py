@@ -261,3 +261,31 @@ def any_deeds(n, m, places):
     deeds += [(word, house) for word in ("write", "stop", "wake") for house in houses]
     deeds += [("send", one, other) for one, other in itertools.product(houses, houses)]
     return deeds + [(word, at) for word in ("hand", "double", "lose") for at in range(places)]
+
+
+def round_by(shadow):
+    """One round, deed by deed, on another shadow."""
+    shadow = shadow.copy()
+    awake = shadow.awake()
+    for house in awake:
+        shadow.do(("write", house))
+    for sender in awake:
+        for receiver in awake:
+            if sender != receiver:
+                shadow.do(("send", sender, receiver))
+    at = 0
+    while at < len(shadow.way):
+        if shadow.way[at][1] in awake:
+            shadow.do(("hand", at))
+        else:
+            at += 1
+    return shadow
+
+
+def end_by(shadow):
+    rounds, before = 1, shadow
+    behind = round_by(before)
+    while (behind.disks, behind.memories) != (before.disks, before.memories):
+        rounds, before = rounds + 1, behind
+        behind = round_by(before)
+    return behind, rounds

@@ -4,36 +4,9 @@ import unittest
 
 from firmvalues.calm import Calm, calm_end, calm_round
 from firmvalues.nets import after_deed, after_deeds
-from courses import Shadow, agrees, drawn_course, joined, net_of, plain_net, wanted_proposals, worlds_of_nets
+from courses import (Shadow, agrees, drawn_course, end_by, joined, net_of, plain_net, round_by, wanted_proposals,
+                     worlds_of_nets)
 from reckon import error_of
-
-
-def round_by(shadow):
-    """One round, deed by deed, on another shadow."""
-    shadow = shadow.copy()
-    awake = shadow.awake()
-    for house in awake:
-        shadow.do(("write", house))
-    for sender in awake:
-        for receiver in awake:
-            if sender != receiver:
-                shadow.do(("send", sender, receiver))
-    at = 0
-    while at < len(shadow.way):
-        if shadow.way[at][1] in awake:
-            shadow.do(("hand", at))
-        else:
-            at += 1
-    return shadow
-
-
-def end_by(shadow):
-    rounds, before = 1, shadow
-    behind = round_by(before)
-    while (behind.disks, behind.memories) != (before.disks, before.memories):
-        rounds, before = rounds + 1, behind
-        behind = round_by(before)
-    return behind, rounds
 
 
 def some_shadows(many, seed, houses=(2, 3, 4, 5), right=True):
