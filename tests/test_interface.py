@@ -12,18 +12,22 @@ from firmvalues.cellruns import CellRun
 from firmvalues.calm import Calm
 from firmvalues.cells import Cells
 from firmvalues.collects import Collector
+from firmvalues.datatext import data_text
 from firmvalues.desk import Desk, Trial, begun_page
+from firmvalues.disktext import disk_text, net_text
 from firmvalues.falls import Falls
 from firmvalues.foe import Onward, Rounds
 from firmvalues.keepers import Disk
 from firmvalues.letters import Letter
-from firmvalues.nets import Net
+from firmvalues.nets import Net, after_deeds
 from firmvalues.outcomes import Clash, Outcomes, decide
 from firmvalues.registers import Commands
-from firmvalues.service import Service
+from firmvalues.service import Service, after_service_course, begun_service
+from firmvalues.servicetext import service_text
 from firmvalues.silence import Settled
-from firmvalues.slots import Agenda, Stuck
+from firmvalues.slots import Agenda, Stuck, book_behind, outcomes_behind
 from firmvalues.splitting import PlanBreak, SplitRun
+from firmvalues.stories import desk_from
 from firmvalues.tables import HouseTable
 from firmvalues.valence import Outlook
 from firmvalues.verdicts import Endless, Unlike, Unproposed
@@ -304,6 +308,66 @@ class TestNothingIsChanged(unittest.TestCase):
                 "broken": PlanBreak("unlike", entry, [[1]] + [[0]] * (n - 1), []), "clash": clash, "one": (0,) * n,
                 "other": (1,) * n, "course": [["step", 0], ["fall", 1], ["wake", 1]], "outcomes": outcomes,
                 "view": tuple(entry)}
+
+
+    def test_nets_agendas_services_and_desks_stay_as_they_are(self):
+        drawn = random.Random(3)
+        called = set()
+        for n, manner in [(n, manner) for n in (2, 3) for manner in ("sure", "letters") for _ in range(3)]:
+            things = net_things(drawn, n, manner)
+            kept = shape(things)
+            for name, call in [(line.split("(")[0], getattr(importlib.import_module("firmvalues." + file), line.split("(")[0]))
+                               for file in NET_FILES for line in listed(FUNCTIONS[file])]:
+                own = {**things, **things["for"].get(name, {})}
+                try:
+                    told = call(*[own[param] for param in inspect.signature(call).parameters])
+                    if inspect.isgenerator(told):
+                        list(told)
+                    called.add(name)
+                except ValueError:
+                    pass
+                self.assertEqual(shape(things), kept, name)
+            for desk in (things["desk"],):
+                desk.trial(things["for"]["desk_from"]["course"])
+                for deed in things["wrong deeds"]:
+                    self.assertRaises(ValueError, desk.act, deed)
+                self.assertEqual(shape(things), kept)
+        names = {line.split("(")[0] for file in NET_FILES for line in listed(FUNCTIONS[file])}
+        self.assertEqual(names - called, set())
+
+
+def net_things(drawn, n, manner):
+    """Things for all parameters of nets, agendas, services and desks, lists wherever a sequence may be one."""
+    falls = Falls(n, drawn.choice([[[house] for house in range(n if n > 2 else 1)], [list(range(1, n))]]))
+    rule = ["rule", ["firm greatest"]]
+    agenda = Agenda(falls, 2, manner, [rule, ["choose", 0, [rule, ["keeps", 0]]]])
+    book = book_behind(agenda, ())
+    outcomes = outcomes_behind(agenda, ())
+    entry = list(drawn.choice(book.inputs))
+    deeds = [["propose", 0, entry[0]], ["write", 0], ["send", 0, 1], ["double", 0], ["hand", 0], ["propose", 1, entry[1]],
+             ["write", 1], ["send", 1, 0]]
+    net = after_deeds(Net(book, falls, outcomes, manner), deeds)
+    slots = [["slot", 0, deed] for deed in deeds]
+    service = after_service_course(begun_service(agenda), slots)
+    story = [["falls", [list(lot) for lot in falls.lots]], ["manner", manner], ["slots", [rule, rule]], ["begin"],
+             ["service", slots[0]], ["calm"], ["cut"], ["resume"], ["back"],
+             ["program", [[1, [0, 0], [[0, [None] * (n - 1), ["done", 1]]]]] * n], ["entry", entry], ["step", 0]]
+    desk = desk_from(n, 2, story)
+    special = {"after_desk_deed": {"deed": ["service", ["stop", 0]], "page": desk_from(n, 2, story[:5]).page},
+               "check_service_deed": {"deed": slots[0]}, "after_service_deed": {"deed": ["slot", 0, ["hand", 0]]},
+               "check_slot_rule": {"rule": ["choose", 0, [rule, rule]]}, "plain_rule": {"rule": ["choose", 0, [rule, rule]]},
+               "after_service_course": {"course": [["stop", 0], ["wake", 0]]}, "each_service": {"course": [["stop", 0]]},
+               "desk_from": {"course": story}, "straight_course": {"course": story}, "read_disk": {"text": disk_text(net.disks[0])},
+               "read_net": {"text": net_text(net)}, "desk_from_text": {"text": data_text(story)},
+               "slow_course": {"net": Net(book, falls, outcomes, manner), "deeds": deeds + [["stop", 0]]},
+               "book_behind": {"log": []}, "outcomes_behind": {"log": []}, "each_view": {"values": 2}}
+    return {"for": special, "net": net, "deed": ["hand", 0], "deeds": [["stop", 0], ["wake", 0]], "slow": deeds[1:2],
+            "disk": net.disks[0], "letter": Letter(1, 0, [None] + entry[1:], None), "house": 0, "houses": n, "values": 2,
+            "value": 1, "book": book, "falls": falls, "outcomes": outcomes, "manner": manner, "view": [None] + entry[1:],
+            "agenda": agenda, "log": [1], "slot": 1, "service": service, "page": desk.page, "desk": desk, "one": tuple(entry),
+            "other": (0,) * n, "commands": Commands([1, 2], [["swap", 0, 1], ["keep"]]), "text": service_text(service),
+            "wrong deeds": [["back", 1], [], ["falls", [[0, [1]]]], ["slots", [rule, []]], ["commands", [1], [["set"]]],
+                            ["program", [[1]] * n], ["entry", [0, [0]]]]}
 
 
 def shape(thing):
