@@ -135,7 +135,8 @@ def _do_read(page, deed):
         raise NoCommands()
     if len(page.commands.rows) != page.m:
         raise BadCommands("rows", 0)
-    return page, ("read", *read_at(service, page.commands, deed[1]))
+    length, registers = read_at(service, page.commands, deed[1])
+    return page, ("read", length, registers)
 
 
 def _do_cut(page, _):

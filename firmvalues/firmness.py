@@ -4,6 +4,7 @@ from firmvalues.errors import BadManner
 from firmvalues.falls import lot_within
 
 MANNERS = ("sure", "cells", "letters")
+NET_MANNERS = ("sure", "letters")
 
 
 def check_manner(manner):

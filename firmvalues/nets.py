@@ -1,12 +1,10 @@
 """Nets: houses that send letters, which come late, in any order, twice or never."""
 
 from firmvalues.errors import BadManner, NoDeed
+from firmvalues.firmness import NET_MANNERS
 from firmvalues.inputs import check_view, heard_houses, row_with
 from firmvalues.keepers import blank_disk, disk_with_letter, disk_with_value, looked_disk
 from firmvalues.letters import Letter, check_deed
-
-NET_MANNERS = ("sure", "letters")
-
 
 class Net:
     """Where the houses and their letters stand; a deed makes another net."""

@@ -2,8 +2,8 @@
 
 from firmvalues.books import MOST_INPUTS, book_of
 from firmvalues.errors import BadAgenda, BadLog, BadRule, BadSlotRule, NoSlot, NotPossible
+from firmvalues.firmness import NET_MANNERS
 from firmvalues.inputs import all_inputs, as_tuples, is_sequence, is_whole
-from firmvalues.nets import NET_MANNERS
 from firmvalues.outcomes import Clash, decide
 from firmvalues.rules import check_rule
 

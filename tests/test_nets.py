@@ -1,5 +1,6 @@
 """firmvalues.nets: points 13.1 and 13.6 to 13.9, behind every deed of drawn courses, by a second walk."""
 
+import copy
 import random
 import time
 import unittest
@@ -58,6 +59,18 @@ class TestNewNets(unittest.TestCase):
         for other in others:
             self.assertNotEqual(net, other)
         self.assertEqual(net, after_deeds(net, [("stop", 0), ("wake", 0)]))
+
+    def test_one_attribute_alone_makes_nets_unlike(self):
+        world = small_world("sure")
+        net = proposed_net(*world.parts(), (0, 1, None))
+        sent = after_deed(net, ("send", 0, 1))
+        for name, thing in (("book", Book(3, 2, [])), ("falls", Falls(3, [])), ("outcomes", Outcomes((), ())),
+                            ("manner", "letters"), ("disks", world.net().disks), ("memories", (None,) * 3), ("way", sent.way),
+                            ("sent", 7)):
+            other = copy.copy(net)
+            self.assertEqual(other, net)
+            setattr(other, name, thing)
+            self.assertNotEqual(other, net, name)
 
 
 class TestDeeds(unittest.TestCase):
