@@ -6,6 +6,7 @@ from firmvalues.inputs import check_view, heard_houses, row_with
 from firmvalues.keepers import blank_disk, disk_with_letter, disk_with_value, looked_disk
 from firmvalues.letters import Letter, check_deed
 
+
 class Net:
     """Where the houses and their letters stand; a deed makes another net."""
 

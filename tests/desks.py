@@ -163,10 +163,15 @@ def tables_of(program):
 def right_deed(drawn, shadow, wanted):
     """A deed of the right form for the page; `wanted` holds the shadow of its service while it has one."""
     n, m, page = shadow.n, shadow.m, shadow.page
-    word = drawn.choice(["service"] * 12 + ["calm", "read", "read", "step", "step", "step", "entry", "begin", "cut", "resume",
-                                            "resume"] + list(LENGTHS))
-    if page["service"] is None and page["text"] is None and drawn.random() < 0.5:
-        word = "begin"
+    if page["text"] is not None:
+        likely = ["resume"] * 6
+    elif page["service"] is not None:
+        likely = ["service"] * 16 + ["calm"] + ["read"] * 3 + ["cut"] * 2
+    else:
+        likely = ["manner"] * 3 if page["manner"] == "cells" else ["falls", "slots"] + ["begin"] * 3
+    if page["program"] is not None:
+        likely += ["step"] * 5 + ["entry"] if page["standing"] is not None else ["entry"] * 3
+    word = drawn.choice(likely if drawn.random() < 0.75 else list(LENGTHS))
     if word == "service" and wanted is not None:
         return word, drawn.choice([service_deed(drawn, wanted)] * 6 + [drawn.choice(all_service_deeds(wanted.agenda, 2))])
     return (word, *arguments_of(drawn, word, n, m))
@@ -176,7 +181,7 @@ def arguments_of(drawn, word, n, m):
     if word == "falls":
         return (drawn.choice([[[house] for house in range(n)], drawn.choice(some_families(n, 12, 5))]),)
     if word == "manner":
-        return (drawn.choice(["sure", "letters", "letters", "cells"]),)
+        return (drawn.choice(["sure", "sure", "letters", "letters", "cells"]),)
     if word == "slots":
         return (tuple(drawn_rule(drawn, n, m, slot, 0, drawn.random() < 0.6) for slot in range(drawn.randint(1, 3))),)
     if word == "commands":

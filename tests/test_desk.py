@@ -69,7 +69,7 @@ class TestPages(unittest.TestCase):
 
     def test_every_deed_right_and_spoilt_by_a_second_walk(self):
         drawn, seen, errors = random.Random(461), {}, {}
-        for n, m, many in ((2, 2, 2400), (2, 3, 1200), (3, 2, 1500), (2, 1, 300)):
+        for n, m, many in ((2, 2, 3600), (2, 3, 2100), (3, 2, 2400), (2, 1, 600)):
             for _ in range(3):
                 page = begun_page(n, m)
                 for deed, error, answer, shadow in drawn_story(drawn, n, m, many // 3):
@@ -353,6 +353,15 @@ class TestDesks(unittest.TestCase):
         self.assertEqual(desk.trial([("back",), ["begin"]]), Trial([["back", ["manner", "sure"]], ["begin", 1]], None))
         self.assertEqual(desk.trial(["begin"]), Trial((), 0))
         self.assertEqual(desk.trial([None]), Trial((), 0))
+
+    def test_desks_of_all_sizes(self):
+        for n, m in ((2, 4), (3, 4), (4, 4), (5, 1), (5, 3)):
+            desk = Desk(n, m)
+            course = [("falls", [[0]]), ("begin",), ("service", ("slot", 0, ("propose", n - 1, m - 1))), ("calm",), ("back",)]
+            trial = desk.trial(course)
+            self.assertEqual((len(trial.answers), trial.refused), (5, None))
+            self.assertEqual([desk.act(deed) for deed in course], list(trial.answers))
+            self.assertEqual(desk.page.service.nets[0].memories[n - 1].view[n - 1], m - 1)
 
     def test_trials_are_equal_by_both_attributes(self):
         trial = Trial([("begin", 1)], 1)

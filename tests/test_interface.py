@@ -263,7 +263,7 @@ class TestNothingIsChanged(unittest.TestCase):
     def test_programs_plans_and_runs_stay_as_they_are(self):
         drawn = random.Random(2)
         called = set()
-        for n, kind in [(n, kind) for n in (2, 3) for kind in KINDS for _ in range(4)]:
+        for n, kind in [(n, kind) for n in (2, 3) for kind in KINDS for _ in range(2)]:
             book, falls = Book(n, 2, inputs_of(n, 2)), Falls.at_most(n, 1)
             things = self.things_of(drawn, book, falls, drawn_program(drawn, n, 2, kind))
             kept = shape(things)

@@ -1,5 +1,6 @@
 """firmvalues.service: points 15.5 to 15.9, behind every deed of drawn courses, by a second walk."""
 
+import copy
 import itertools
 import time
 import unittest
@@ -7,6 +8,7 @@ import unittest
 from firmvalues.books import book_of
 from firmvalues.falls import Falls
 from firmvalues.inputs import all_inputs
+from firmvalues.keepers import Disk
 from firmvalues.nets import after_deed
 from firmvalues.outcomes import decide
 from firmvalues.registers import Commands
@@ -294,6 +296,30 @@ class TestCourses(unittest.TestCase):
                 for slot, net in enumerate(calmed.nets):
                     self.assertEqual(slot < len(log), net.told_values[calmed.awake[0]] is not None)
         self.assertGreater(min(seen.values()), 15)
+
+    def test_a_calm_ends_where_a_house_awake_has_told_nothing(self):
+        """A house that told and fell asleep has opened slot 1; those awake do nothing there yet."""
+        agenda = Agenda(Falls.at_most(3, 1), 2, "sure", [("rule", ("alike but", 0)), GREATEST])
+        service = after_service_course(begun_service(agenda), [("slot", 0, ("propose", 0, 1)), ("slot", 0, ("write", 0)),
+                                                               ("stop", 0)])
+        self.assertEqual(all_logs(service), ((1,), (), ()))
+        calmed = calm_service(service)
+        self.assertEqual((len(calmed.nets), all_logs(calmed)), (2, ((1,), (), ())))
+        self.assertEqual(calmed.nets[1], service.nets[1])
+        self.assertGreater(calmed.nets[0].sent, 0)
+        woken = calm_service(after_service_deed(calmed, ("wake", 0)))
+        self.assertEqual(all_logs(woken), ((1,),) * 3)
+        self.assertGreater(woken.nets[1].sent, 0)
+
+    def test_the_longest_log_is_the_first_of_its_length(self):
+        agenda = Agenda(Falls.at_most(3, 1), 2, "letters", [GREATEST, GREATEST])
+        net = begun_service(agenda).nets[0]
+        for told, longest in (((None, 1, 0), (1,)), ((0, 1, 1), (0,)), ((None, None, None), ())):
+            other = copy.copy(net)
+            other.disks = tuple(Disk((None,) * 3, (None,) * 3, None, value) for value in told)
+            service = Service(agenda, (0, 1, 2), (other,), None)
+            self.assertEqual(longest_log(service), longest)
+            self.assertEqual(all_logs(service), tuple(() if value is None else (value,) for value in told))
 
     def test_nobody_awake(self):
         service = begun_service(Agenda(Falls.at_most(2, 0), 2, "sure", [GREATEST] * 2))
