@@ -2,8 +2,8 @@
 
 from firmvalues.books import book_of
 from firmvalues.breaking import break_program
-from firmvalues.errors import (BadCommands, BadDesk, BadDeskDeed, BadManner, FirmError, NoCommands, NoProgram,
-                               NoService, NotStarted, NothingCut, NothingDone, UnlikeValues)
+from firmvalues.errors import BadCommands, BadDesk, BadDeskDeed, BadManner, FirmError, UnlikeValues
+from firmvalues.errors import NoCommands, NoProgram, NoService, NotStarted, NothingCut, NothingDone
 from firmvalues.falls import Falls
 from firmvalues.firmness import check_manner
 from firmvalues.inputs import as_tuples, is_sequence, is_whole

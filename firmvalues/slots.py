@@ -13,6 +13,8 @@ LENGTHS = {"rule": 2, "keeps": 2, "choose": 3}
 
 
 class Agenda:
+    """Slots over one family, number of values and manner; each slot has a rule of its own."""
+
     def __init__(self, falls, values, manner, rules):
         if not is_whole(values, 1, 4):
             raise BadAgenda("values")
@@ -20,11 +22,12 @@ class Agenda:
             raise BadAgenda("many")
         if manner not in NET_MANNERS:
             raise BadAgenda("manner")
-        self.rules = check_slot_rules(falls.n, values, rules)
+        checked = check_slot_rules(falls.n, values, rules)
         self.falls = falls
         self.n = falls.n
         self.m = values
         self.manner = manner
+        self.rules = checked
 
     def __eq__(self, other):
         return (isinstance(other, Agenda) and self.falls == other.falls and self.n == other.n and self.m == other.m

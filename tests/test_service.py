@@ -205,6 +205,8 @@ class TestDeeds(unittest.TestCase):
         calmed = calm_service(woken)
         self.assertEqual(all_logs(calmed), ((1,),) * 3)
         self.assertEqual(len(calmed.nets[1]), 0)
+        for deed in (("propose", 2, 0), ("write", 2), ("send", 2, 0)):
+            self.assertIsNone(error_of(after_service_deed, calmed, ("slot", 1, deed)))
 
     def test_only_inputs_of_the_book_can_come_in_sure(self):
         falls = Falls.at_most(3, 1)

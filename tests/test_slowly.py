@@ -163,6 +163,8 @@ class TestSlowly(unittest.TestCase):
                 if wrong:
                     self.assertEqual(told, ("Unwritten", wrong[0]))
                     found.add(wrong[0])
+                    written = after_deeds(net, [("write", house) for house in shadow.awake()])
+                    self.assertEqual(error_of(slow_course, written, deeds), error_of(after_deeds, written, deeds))
                 else:
                     self.assertEqual(told, None if deeds == () else error_of(after_deeds, net, deeds))
         self.assertLessEqual({0, 1, 2}, found)
