@@ -2,8 +2,12 @@
 
 import unittest
 
+from firmvalues.books import Book
 from firmvalues.calm import Calm, calm_end, calm_round
+from firmvalues.disktext import read_net
+from firmvalues.falls import Falls
 from firmvalues.nets import after_deed, after_deeds
+from firmvalues.outcomes import Outcomes
 from courses import (Shadow, agrees, drawn_course, end_by, joined, net_of, plain_net, round_by, wanted_proposals,
                      worlds_of_nets)
 from reckon import error_of
@@ -84,6 +88,16 @@ class TestCalm(unittest.TestCase):
             calm = calm_end(alone)
             self.assertEqual((calm.sent, len(calm.net)), (0, 0))
             self.assertEqual(calm.net.memories[1], calm.net.disks[1])
+
+    def test_six_rounds_are_the_most(self):
+        """A net, found by drawing, that takes all six: a house sleeps, and a late letter holds all three values."""
+        book, falls = Book(3, 2, [(0, 1, 1), (1, 1, 0)]), Falls(3, [])
+        text = ("((((0 1 -) (- (- 1 -) (- - -)) - -) ((- 1 -) ((- - -) - -) - -) ((0 1 1) ((0 - -) (- 1 -) -) - -)) "
+                "(((0 1 -) (- (- 1 -) (- - -)) - -) ((- 1 -) ((- - -) - -) - -) -) ((2 0 (0 1 1) -)) 20)")
+        net = read_net(book, falls, Outcomes(book.inputs, (1, 1)), "letters", text)
+        calm = calm_end(net)
+        self.assertEqual((calm.rounds, calm.sent, calm.net.sent), (6, 12, 32))
+        self.assertEqual([calm.net.disks[house].view for house in (0, 1)], [(0, 1, 1)] * 2)
 
     def test_letters_to_houses_that_sleep_stay(self):
         stayed = 0
